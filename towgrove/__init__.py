@@ -1,0 +1,1 @@
+"""Towgrove: walkers on a tree, tied with ropes."""
