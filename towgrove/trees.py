@@ -1,8 +1,8 @@
 """Trees of places."""
 
 from towgrove.errors import NoMatch, NoPlace, NoTree
+from towgrove.plans import Plan
 
-LETTERS = "abcdefghijklmnopqrstuvwxyz"
 LONGEST_NAME = 6
 MOST_PLACES = 40
 
@@ -15,7 +15,10 @@ def check_form(places, edges):
     if not is_tuple_of_strings(places) or not isinstance(edges, tuple):
         raise NoTree("form", 0)
     for edge in edges:
-        if not is_tuple_of_strings(edge) or len(edge) != 2:
+        if not isinstance(edge, tuple) or len(edge) != 2:
+            raise NoTree("form", 0)
+        one, other = edge
+        if not isinstance(one, str) or not isinstance(other, str):
             raise NoTree("form", 0)
 
 
@@ -29,15 +32,26 @@ def check_places(places):
         seen.add(place)
 
 
-def check_edges(places, edges):
-    seen = set()
+def mates_by_place(places, edges):
+    """For each place the other ends of its edges; the edges are checked one by one."""
+    mates = {place: [] for place in places}
     for at, (one, other) in enumerate(edges):
-        if one not in places or other not in places:
+        if one not in mates or other not in mates:
             raise NoTree("edge", at)
-        if one == other or (one, other) in seen:
+        if one == other or other in mates[one]:
             raise NoTree("edge", at)
-        seen.add((one, other))
-        seen.add((other, one))
+        mates[one].append(other)
+        mates[other].append(one)
+    return mates
+
+
+def in_place_order(mates):
+    """The same neighbours, those of each place in place order."""
+    near = {place: [] for place in mates}
+    for place in mates:
+        for mate in mates[place]:
+            near[mate].append(place)
+    return near
 
 
 def check_joined(places, edges):
@@ -55,63 +69,29 @@ def check_joined(places, edges):
             raise NoTree("apart", at)
 
 
-def neighbours_by_place(places, edges):
-    beside = {place: {} for place in places}
-    for one, other in edges:
-        beside[one][other] = True
-        beside[other][one] = True
-    near = {}
-    for place in places:
-        near[place] = tuple([mate for mate in places if mate in beside[place]])
-    return near
-
-
-def ways_to(root, near):
-    """For each place the next one on the path to the root; the root itself for the root."""
-    after = {root: root}
-    waiting = [root]
-    while waiting:
-        here = waiting.pop()
-        for place in near[here]:
-            if place not in after:
-                after[place] = here
-                waiting.append(place)
-    return after
-
-
-def distances_from(root, after):
-    far = {root: 0}
-    # In this dict a place stands behind the one it leads to, whose distance is then known.
-    for place, closer in after.items():
-        if place != root:
-            far[place] = far[closer] + 1
-    return far
-
-
 class Tree:
     """Places, each two of them joined by exactly one path of edges."""
 
     def __init__(self, places, edges):
         check_form(places, edges)
         check_places(places)
-        check_edges(places, edges)
-        check_joined(places, edges)
-        near = neighbours_by_place(places, edges)
-        after = {place: ways_to(place, near) for place in places}
+        near = in_place_order(mates_by_place(places, edges))
+        plan = Plan(places[0], near)
+        # That all places are reached by one edge for each further place is quickly seen;
+        # which edge or place is wrong is asked only where this does not hold.
+        if len(plan.spots) != len(places) or len(edges) != len(places) - 1:
+            check_joined(places, edges)
         self._places = places
         self._edges = edges
-        self._near = near
-        # Walks and distances are asked for all the time and a tree never changes,
-        # so both are worked out once, for each place as the end.
-        self._after = after
-        self._far = {place: distances_from(place, after[place]) for place in places}
+        self._shape = (places, near)
+        self.plan = plan
 
     @staticmethod
     def is_name(value):
         """Whether any value is a name: one to six lower-case letters."""
-        if not isinstance(value, str) or not 1 <= len(value) <= LONGEST_NAME:
+        if not isinstance(value, str) or len(value) > LONGEST_NAME:
             return False
-        return all([letter in LETTERS for letter in value])
+        return value.isascii() and value.isalpha() and value.islower()
 
     @classmethod
     def in_row(cls, *places):
@@ -133,71 +113,64 @@ class Tree:
         """The edges, as they were given."""
         return self._edges
 
-    def require(self, *places):
-        """Raise NoPlace for the first of these that is not a place."""
-        for place in places:
-            if place not in self:
-                raise NoPlace(place)
+    def spot(self, place):
+        """The spot of a place in the plan; raises NoPlace."""
+        if place not in self.plan.spots:
+            raise NoPlace(place)
+        return self.plan.spots[place]
 
     def neighbours(self, place):
         """The neighbours of a place, in place order."""
-        self.require(place)
-        return self._near[place]
+        self.spot(place)
+        return tuple(self.plan.near[place])
 
     def distance(self, a, b):
         """The number of edges on the path from a to b."""
-        self.require(a, b)
-        return self._far[a][b]
+        return self.plan.distance(self.spot(a), self.spot(b))
 
     def toward(self, a, b):
         """The place after a on the path from a to b; a itself if both are the same."""
-        self.require(a, b)
-        return self._after[b][a]
+        return self.plan.names[self.plan.toward(self.spot(a), self.spot(b))]
 
     def median(self, a, b, c):
         """The place that lies on all three paths between two of these."""
-        self.require(a, b, c)
-        here = c
-        # The way from c to a joins the path from a to b where all three paths meet.
-        while self._far[a][here] + self._far[here][b] > self._far[a][b]:
-            here = self._after[a][here]
-        return here
+        return self.plan.names[self.plan.median(self.spot(a), self.spot(b), self.spot(c))]
 
     def path(self, a, b):
         """Iterate over the places from a to b."""
-        self.require(a, b)
-        here = a
-        while here != b:
-            yield here
-            here = self._after[b][here]
+        here, goal = self.spot(a), self.spot(b)
+        while here != goal:
+            yield self.plan.names[here]
+            here = self.plan.toward(here, goal)
         yield b
 
     def walk(self, place):
         """Iterate over all places, by their distance from this one, then in place order."""
-        self.require(place)
-        far = self._far[place]
-        for edges_away in range(len(self._places)):
-            for other in self._places:
-                if far[other] == edges_away:
-                    yield other
+        start = self.spot(place)
+        rings = [[] for _ in self._places]
+        for other in self._places:
+            rings[self.plan.distance(start, self.plan.spots[other])].append(other)
+        for ring in rings:
+            yield from ring
 
     def cut(self, a, b):
         """The two trees that remain without the edge between a and b, first the one with a."""
-        self.require(a, b)
-        if b not in self._near[a]:
+        one, other = self.spot(a), self.spot(b)
+        if b not in self.plan.near[a]:
             raise NoMatch("edge")
-        return self._side(a, b), self._side(b, a)
+        return self._part(self.plan.branch(other, one)), self._part(self.plan.branch(one, other))
 
-    def _side(self, end, away):
-        """The tree of the places that are nearer to one end of an edge than to the other."""
-        places = [place for place in self._places if self._far[end][place] < self._far[away][place]]
-        edges = [edge for edge in self._edges if edge[0] in places and edge[1] in places]
-        return Tree(tuple(places), tuple(edges))
+    def _part(self, mask):
+        """The tree of the places of a mask and of the edges between them."""
+        places = self.plan.named(mask)
+        kept = set(places)
+        edges = [edge for edge in self._edges if edge[0] in kept and edge[1] in kept]
+        return Tree(places, tuple(edges))
 
     def grafted(self, other, at, to):
         """The tree of both trees and an edge from a place of this one to one of the other."""
-        self.require(at)
-        other.require(to)
+        self.spot(at)
+        other.spot(to)
         if any([place in other for place in self._places]):
             raise NoMatch("place")
         if len(self) + len(other) > MOST_PLACES:
@@ -216,10 +189,10 @@ class Tree:
         return len(self._places)
 
     def __contains__(self, value):
-        return isinstance(value, str) and value in self._near
+        return isinstance(value, str) and value in self.plan.spots
 
     def __eq__(self, other):
-        return isinstance(other, Tree) and self._places == other._places and self._near == other._near
+        return isinstance(other, Tree) and self._shape == other._shape
 
     def __repr__(self):
         return f"Tree({len(self._places)} places)"
