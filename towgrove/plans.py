@@ -6,6 +6,13 @@ def lowest(mask):
     return (mask & -mask).bit_length() - 1
 
 
+def ball_of(balls, radius):
+    """The ball of a radius among those of all radiuses, the last one the whole tree; None is any distance."""
+    if radius is None or radius >= len(balls):
+        return balls[-1]
+    return balls[radius]
+
+
 class Plan:
     """The places of a tree as spots: numbers from 0 for the first place, the root, growing on each way from it.
 
@@ -93,9 +100,12 @@ class Plan:
     def sources(self, grove, other):
         """The mask of the spots whose gate in the other, a nonempty grove, lies in the first one."""
         found = 0
-        for spot in range(len(self.above)):
-            if grove >> self.gate(other, spot) & 1:
-                found = found | 1 << spot
+        # Here the gates are found as in `gate`, but without a call for each spot.
+        outside = grove >> lowest(other) & 1
+        for spot, line in enumerate(self.above):
+            met = line & other
+            inside = grove >> (met.bit_length() - 1) & 1 if met else outside
+            found = found | inside << spot
         return found
 
     def branch(self, at, away):
@@ -125,10 +135,3 @@ class Plan:
                 return found
             found.append(ball)
             ring = further
-
-    def ball(self, centre, radius):
-        """The mask of the places at most so far away from a place; None is any distance."""
-        balls = self.balls(centre)
-        if radius is None or radius >= len(balls):
-            return self.whole()
-        return balls[radius]

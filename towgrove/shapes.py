@@ -3,6 +3,7 @@
 from towgrove.errors import NoMatch
 from towgrove.groves import Grove
 from towgrove.lengths import Length
+from towgrove.plans import ball_of
 
 
 def as_length(radius):
@@ -19,7 +20,7 @@ class Ball(Grove):
         tree.spot(centre)
         self._centre = centre
         self._radius = as_length(radius)
-        self._mask = tree.plan.ball(centre, self._radius.number)
+        self.mask = ball_of(tree.plan.balls(centre), self._radius.number)
 
     @property
     def centre(self):
@@ -41,7 +42,7 @@ class Branch(Grove):
         if at not in tree.neighbours(away):
             raise NoMatch("edge")
         self._root = away
-        self._mask = tree.plan.branch(start, root)
+        self.mask = tree.plan.branch(start, root)
 
     @property
     def root(self):
@@ -54,7 +55,7 @@ class Way(Grove):
 
     def __init__(self, tree, one, other):
         super().__init__(tree, ())
-        self._mask = tree.plan.way(tree.spot(one), tree.spot(other))
+        self.mask = tree.plan.way(tree.spot(one), tree.spot(other))
         self._ends = (one, other)
 
     @property
@@ -68,4 +69,4 @@ class Whole(Grove):
 
     def __init__(self, tree):
         super().__init__(tree, ())
-        self._mask = tree.plan.whole()
+        self.mask = tree.plan.whole()

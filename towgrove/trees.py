@@ -147,7 +147,7 @@ class Tree:
     def walk(self, place):
         """Iterate over all places, by their distance from this one, then in place order."""
         start = self.spot(place)
-        rings = [[] for _ in self._places]
+        rings = [[] for ring in self._places]
         for other in self._places:
             rings[self.plan.distance(start, self.plan.spots[other])].append(other)
         for ring in rings:
