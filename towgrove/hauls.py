@@ -58,6 +58,9 @@ class Haul:
     def _plan(self):
         return self._party.tree.plan
 
+    def _sizes(self):
+        return ", ".join([str(len(grove)) for grove in self._groves])
+
     def within(self, other):
         """Whether each grove is within the grove of the other haul."""
         self._match(other)
@@ -110,5 +113,4 @@ class Haul:
         return isinstance(other, Haul) and self._party == other._party and self.masks == other.masks
 
     def __repr__(self):
-        sizes = ", ".join([str(len(grove)) for grove in self._groves])
-        return f"Haul({sizes})"
+        return f"Haul({self._sizes()})"

@@ -162,10 +162,9 @@ class Tree:
 
     def _part(self, mask):
         """The tree of the places of a mask and of the edges between them."""
-        places = self.plan.named(mask)
-        kept = set(places)
-        edges = [edge for edge in self._edges if edge[0] in kept and edge[1] in kept]
-        return Tree(places, tuple(edges))
+        spots = self.plan.spots
+        edges = [edge for edge in self._edges if mask >> spots[edge[0]] & mask >> spots[edge[1]] & 1]
+        return Tree(self.plan.named(mask), tuple(edges))
 
     def grafted(self, other, at, to):
         """The tree of both trees and an edge from a place of this one to one of the other."""
