@@ -103,6 +103,17 @@ class Troop:
                 mover, other = choose(pairs) if pairs else (None, None)
                 goal = where.get(other)
 
+    def dragged(self, standing, row, choose=lambda pairs: pairs[0]):
+        """Where a row leads, one single move after another."""
+        for pull in row:
+            *_, standing = self.drag(standing, pull, choose)
+        return standing
+
+    def dragged_members(self, row):
+        """The places of the groves of a row: where it leads from the gathered standings."""
+        ends = [self.dragged((place,) * len(self.walkers), row) for place in self.land.places]
+        return [self.land.in_order(set(places)) for places in zip(*ends)]
+
 
 class TroopCase(Case):
 
