@@ -25,7 +25,7 @@ ANY_VALUES = (
 
 class Case(unittest.TestCase):
 
-    def refuses(self, kind, kept, work, *values, **named):
+    def refuses(self, kind, kept, work, /, *values, **named):
         """Check that a call raises an error of exactly this class with these attributes."""
         try:
             work(*values, **named)
